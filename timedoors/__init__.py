@@ -1,0 +1,1 @@
+"""timedoors: a game with doors through time, played as one plain machine."""

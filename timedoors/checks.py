@@ -1,0 +1,51 @@
+"""Refusals that many functions share: each check raises the error of its argument, or does nothing."""
+
+from timedoors.errors import InvalidHistory, InvalidLevel, InvalidLights, InvalidNumber
+from timedoors.errors import InvalidPresses, InvalidRoom, InvalidRuns
+from timedoors.kinds import fits_endless, fits_level, fits_lights, fits_presses, fits_room, fits_runs, is_count
+
+
+def check_level(level):
+    if not fits_level(level):
+        raise InvalidLevel(level)
+
+
+def check_presses(level, presses):
+    if not fits_presses(level[0], presses):
+        raise InvalidPresses(presses)
+
+
+def check_history(level, history):
+    if not fits_presses(level[0], history):
+        raise InvalidHistory(history)
+
+
+def check_runs(level, runs):
+    if not fits_runs(level[0], runs):
+        raise InvalidRuns(runs)
+
+
+def check_endless(level, endless):
+    if not fits_endless(level[0], endless):
+        raise InvalidPresses(endless)
+
+
+def check_room(level, room):
+    if not fits_room(level[0], room):
+        raise InvalidRoom(room)
+
+
+def check_lights(level, lights):
+    if not fits_lights(level[0], lights):
+        raise InvalidLights(lights)
+
+
+def check_count(number):
+    if not is_count(number):
+        raise InvalidNumber(number)
+
+
+def check_tick(ticks, tick):
+    """A tick is one of so many ticks, counted from 0."""
+    if not is_count(tick) or tick >= ticks:
+        raise InvalidNumber(tick)

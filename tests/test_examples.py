@@ -3,10 +3,21 @@
 import unittest
 
 from tests.helpers import same
+from timedoors.alike import are_alike, idle_doors, is_enough, is_parting, least_lots, lighting, parting, without_doors
+from timedoors.beside import how_many_beside, shortest_beside
+from timedoors.counting import how_many_walks, number_of_walk, walk_numbered
+from timedoors.endless import added, changed, for_ever, for_ever_at, keeps_for_ever, reach_back, stays_from
 from timedoors.far import far_dark_paper, far_light, far_table, first_lit, is_far_dark, last_lit, times_lit
+from timedoors.hands import are_stays, debts, earned, far_steps, first_shut, greatest_playable, open_steps, opened_by
+from timedoors.hands import put_off, why_unplayable
+from timedoors.houses import hands_light, is_house, is_walk, pressed_by, steps_between
 from timedoors.levels import are_endless, are_letters, are_presses, are_runs, both_pressed, how_many_ticks, is_door
 from timedoors.levels import is_level, left_rooms, plain_endless, pressed_at, right_rooms, spread_out
 from timedoors.light import common, gained, how_many_keep, keeps, light, lit_rounds
+from timedoors.puzzles import is_no_walk_paper, no_walk_paper, shortest_lighting, shortest_walk, state_of, states_met
+from timedoors.reasons import alone, crossing, cuts, fewest_cut, fewest_reason, how_many_light, idle_presses, is_added
+from timedoors.reasons import is_cut, is_reason, presses_in, reasons, sure_presses, together, with_only, without
+from timedoors.rescue import rescue, settled_past
 from timedoors.rests import front_behind, front_table, is_front, is_rest, lit_between, rest_ahead, rest_table, settled
 from timedoors.tables import can_stand_for, is_table, joined, repeats, table_of
 from timedoors.texts import history_in, level_of_text, picture, presses_of_text, text_of_level, text_of_presses
@@ -124,7 +135,119 @@ class Examples(unittest.TestCase):
             [front_table(loop, [[0]]), lit_between(loop, front_table(loop, [[0]]), [], rest_table(loop, [[]])),
              is_rest(loop, [([], [1]), ([1], [])]), is_front(loop, front_behind(loop, front_table(loop, []), [0]))],
             [[([], [1]), ([1], [1])], [0, 1], False, True])
-        self.told([settled(loop, [[]])], [([([], []), ([1], [1])], 1)])
+        self.told(
+            [settled(loop, [[]]), for_ever(loop, ([[0]], [[]])), for_ever_at(loop, ([], [[], []]), 10 ** 29),
+             for_ever((1, [([], 0, 1)]), ([], [[]]))],
+            [([([], []), ([1], [1])], 1), ([], [[0, 1]]), [], ([[]], [[0]])])
+
+    def test_examples_of_endless(self):
+        loop = (2, [([0], 1, 1), ([1], 0, 0), ([1], 1, -1)])
+        self.told(
+            [keeps_for_ever(loop, ([[0]], [[]]), ([], [[0, 1]])), keeps_for_ever(loop, ([[0]], [[]]), ([[0]], [[]])),
+             stays_from(loop, ([[], [0]], [[]]), 2), stays_from(loop, ([], [[]]), 3)],
+            [True, False, 1, 3])
+        self.told(
+            [changed(loop, [[]] * 4, 1, [0]), changed(loop, [[]] * 4, 3, [0]), added(loop, [[]] * 4, 3, [0]),
+             reach_back(loop, [[]] * 4, 3, [0]), reach_back(loop, [[]] * 4, 1, [0])],
+            [[0, 1, 2, 3], [3], [(3, [0])], 3, 0])
+
+    def test_examples_of_houses_and_hands(self):
+        back = ((2, [([0], 1, -1)]), [[], [0]], [(0, 1, [1]), (1, 0, [])])
+        self.told(
+            [is_house(back), is_walk(back, [0, 0, 1]), is_walk(back, [0, 2]), steps_between(back, 0, 1),
+             pressed_by(back, [[0, 1], [0, 0, 0]])],
+            [True, True, False, [[1]], [[], [0], []]])
+        self.told(
+            [hands_light(back, [[0, 1]]), open_steps(back, [[0, 1]], 0), first_shut(back, [[0, 1]]),
+             opened_by(back, [[0, 1]], 0, 0), debts(back, [[0, 1]])],
+            [[[1], [0]], [True], None, 2, [(0, 0, 2)]])
+        self.told(
+            [first_shut(back, [[0, 1, 0], [0, 0, 1, 1]]), greatest_playable(back, [[0, 0, 1], [0, 1]]),
+             why_unplayable(back, [])],
+            [None, [0, 1], []])
+        self.told(
+            [earned(back, [[0, 1]]), earned(back, [[0, 1], [1, 1]]), debts(back, [[0, 1], [1, 1]]), earned(back, [])],
+            [[1], [2, 2], [(0, 0, 2)], []])
+        still = ((2, [([0], 1, 1)]), [[], [0]], [(0, 1, [1]), (1, 0, [])])
+        self.told(
+            [first_shut(still, [[0, 0, 1]]), greatest_playable(still, [[0, 1], [1, 1]]),
+             why_unplayable(still, [[0, 1], [1, 1], [0, 0, 1]]), put_off([[0, 1]], 2)],
+            [(0, 1), [1], [[(0, 0)]], [[0, 0, 0, 1]]])
+        self.told(
+            [far_steps(back, [(0, 10 ** 29), (1, 2), (0, 1)]), far_steps(still, [(1, 3), (0, 2), (1, 1)]),
+             are_stays(back, [(0, 0)])],
+            [[True, True], [True, False], False])
+
+    def test_examples_of_puzzles_and_counting(self):
+        own = ((2, [([0], 1, -1)]), [[], [0]], [(0, 1, [1]), (1, 0, [])])
+        self.told(
+            [shortest_walk(own, 0, 1), shortest_walk(own, 0, 0), shortest_lighting(own, 0, 0),
+             shortest_lighting(own, 0, 1)],
+            [[0, 1], [0], [0, 1], None])
+        self.told(state_of(own, [0, 1]), (1, [([], []), ([1], [])], [[], [1]]))
+        far = (
+            (3, [([0], 1, 1), ([1], 2, -1), ([2], 2, 0)]), [[0], [], [1]], [(0, 1, []), (1, 2, [2]), (2, 1, [])])
+        self.told(
+            [shortest_walk(far, 0, 2), how_many_walks(far, 0, 2, 3), walk_numbered(far, 0, 2, 3, 1),
+             number_of_walk(far, [0, 1, 2, 2]), how_many_walks(far, 0, 2, 5)],
+            [[0, 1, 2], 3, [0, 1, 1, 2], 2, 15])
+        shut = ((1, []), [[], []], [(0, 1, [0])])
+        self.told(
+            [shortest_walk(shut, 0, 1), no_walk_paper(shut, 0, 1), is_no_walk_paper(shut, 0, 1, states_met(shut, 0)),
+             no_walk_paper(shut, 0, 0)],
+            [None, [(0, [([], [])], [[]])], True, None])
+
+    def test_examples_of_beside_and_rescue(self):
+        own = ((2, [([0], 1, -1)]), [[], [0]], [(0, 1, [1]), (1, 0, [])])
+        shut = ((1, []), [[], []], [(0, 1, [0])])
+        self.told(
+            [shortest_beside(shut, [[0, 1]], 0, 0), shortest_beside(own, [[0, 1]], 0, 0),
+             shortest_beside(own, [], 0, 1), how_many_beside(own, [[0, 1]], 0, 1, 2)],
+            [None, [0], [0, 1], 2])
+        back = (2, [([0], 1, -1)])
+        self.told(
+            [rescue(back, [[], []], [[], [0]], 0, 1), rescue(back, [[], []], [[], [0]], 1, 1),
+             rescue(back, [[], [0]], [[]], 0, 1), settled_past(back, [[], []], [[], [0]]),
+             settled_past(back, [[]], [[]])],
+            [None, [[0]], [], 1, 1])
+
+    def test_examples_of_reasons(self):
+        both = (4, [([0, 1], 2, -1), ([3], 2, 0)])
+        keyed = [[], [0, 1], [3]]
+        self.told(
+            [presses_in(both, keyed), with_only(both, keyed, [(1, 1)]), without(both, keyed, [(1, 1)])],
+            [[(1, 0), (1, 1), (2, 3)], [[], [1], []], [[], [0], [3]]])
+        self.told(
+            [reasons(both, keyed, 0, 2), cuts(both, keyed, 0, 2), reasons(both, keyed, 1, 2), cuts(both, keyed, 1, 2),
+             reasons(both, keyed, 2, 2)],
+            [[[(1, 0), (1, 1)]], [[(1, 0)], [(1, 1)]], [], [[]], [[(2, 3)]]])
+        self.told(
+            [crossing([[(1, 0), (1, 1)], [(1, 0), (2, 3)]]), crossing([]), crossing([[]]),
+             is_reason(both, keyed, 0, 2, [(1, 0)]), is_cut(both, keyed, 0, 2, [(1, 0)])],
+            [[[(1, 0)], [(1, 1), (2, 3)]], [[]], [], False, True])
+        self.told(
+            [fewest_reason(both, keyed, 0, 2), fewest_cut(both, keyed, 0, 2), sure_presses(both, keyed, 0, 2),
+             idle_presses(both, keyed, 0, 2), how_many_light(both, keyed, 0, 2)],
+            [[(1, 0), (1, 1)], [(1, 0)], [(1, 0), (1, 1)], [(2, 3)], 2])
+        self.told(
+            [alone(both, 3, 2, 3), is_added(both, keyed), together(both, keyed), is_added(both, [[3], [3]])],
+            [[[], [], [2, 3]], False, [(0, 2)], True])
+
+    def test_examples_of_alike(self):
+        back, ahead = (2, [([0], 1, -1)]), (2, [([0], 1, 1)])
+        self.told(
+            [are_alike(back, ahead, [[], [0]], [0]), parting(back, ahead, [[], [0]], [1]),
+             is_parting(back, ahead, [[], [0]], [1], [[], [0]]), is_parting(back, ahead, [[], [0]], [1], [[0]])],
+            [True, [[], [0]], True, False])
+        self.told(
+            [lighting(back, [[], [0]], 1), lighting(back, [[0]], 1), lighting(back, [[]], 1),
+             without_doors((2, [([0], 1, -1), ([1], 0, 0)]), [0])],
+            [[[], [0]], [[0], [0]], None, (2, [([1], 0, 0)])])
+        twice = (3, [([0], 1, 0), ([0], 1, 0), ([1], 2, -1), ([2], 2, 0)])
+        self.told(
+            [idle_doors(twice, [[], [0]], [1, 2]), least_lots(twice, [[], [0]], [1, 2]),
+             least_lots(twice, [[], [0]], [1]), is_enough(twice, [[], [0]], [2], [2])],
+            [[0, 1, 3], [[0, 2], [1, 2]], [[0], [1]], False])
 
 
 if __name__ == "__main__":

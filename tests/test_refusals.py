@@ -9,8 +9,11 @@ import itertools
 import unittest
 
 from tests import wrong
+from tests.calls import CALLS_OF_STAGE_3, CALLS_OF_STAGE_4
 from tests.helpers import BACK, HALL, RELAY, lists_in, odd_values, same
-from timedoors import errors, far, levels, light, rests, tables, texts, trails
+from tests.wrong import ANY
+from timedoors import alike, beside, counting, endless, errors, far, hands, houses, levels, light, puzzles, reasons
+from timedoors import rescue, rests, tables, texts, trails
 
 KEYED = [[], [0, 1], [0]]
 RUNS = [([], 10 ** 20), ([0], 1), ([1], 3)]
@@ -25,7 +28,6 @@ ROOM = ("room", 2, wrong.ROOMS, errors.InvalidRoom)
 RUNNING = ("runs", RUNS, wrong.RUNS, errors.InvalidRuns)
 FAR_TICK = ("tick", 10 ** 20, wrong.COUNTS + [10 ** 20 + 4, 10 ** 29], errors.InvalidNumber)
 ENDLESS = ("endless", ([[0]], [[], [1], [], [1]]), wrong.ENDLESS, errors.InvalidPresses)
-ANY = ("value", None, [], None)
 
 RELAYED = ("level", RELAY, wrong.LEVELS, errors.InvalidLevel)
 RELAY_LIGHTS = ("lights", [1], wrong.LIGHTS + [[2]], errors.InvalidLights)
@@ -120,7 +122,7 @@ CALLS = [
     (rests.lit_between, [RELAYED, ("front", FRONT, WRONG_FRONTS, errors.InvalidTable), RELAY_LIGHTS,
                          ("rest", REST, WRONG_RESTS, errors.InvalidTable)]),
     (rests.settled, [RELAYED, ("presses", [[0], []], wrong.PRESSES + [[], [[2]]], errors.InvalidPresses)]),
-]
+] + CALLS_OF_STAGE_3 + CALLS_OF_STAGE_4
 
 
 def good_values(parameters):
@@ -171,6 +173,7 @@ class Calls(unittest.TestCase):
 
     def test_2_any_value_is_judged_by_true_or_false(self):
         values = odd_values() + wrong.PRESSES + wrong.LEVELS + WRONG_TABLES + wrong.RUNS + wrong.ENDLESS + wrong.LETTERS
+        values += wrong.HOUSES + wrong.WALK + wrong.STAYS + wrong.LOTS + wrong.LOT + wrong.NUMBERS
 
         def check(function, parameters):
             for value in values if parameters[-1] is ANY else []:
@@ -227,14 +230,15 @@ class Calls(unittest.TestCase):
 
     def test_3_errors_are_told_beyond_the_limits(self):
         rooms = 10 ** 29
-        wide = (rooms, [([room], room + 1, shift) for room in range(40) for shift in (-1, 0, 1)])
+        level = (rooms, [([room], room + 1, shift) for room in range(40) for shift in (-1, 0, 1)])
 
         def check(function, parameters):
             for at, (_, _, _, error) in enumerate(parameters):
                 ahead = [name for name, _, _, _ in parameters[:at]]
                 tables_ahead = [name for name in ahead if name in ("front", "rest", "one")]
-                if ahead[:1] == ["level"] and error is not None and not tables_ahead:
-                    values = [wide] + good_values(parameters)[1:]
+                if ahead[:1] in (["level"], ["house"]) and error is not None and not tables_ahead:
+                    values = good_values(parameters)
+                    values[0] = level if ahead[0] == "level" else (level, *values[0][1:])
                     values[at] = None
                     self.refused(function, values, error, None)
         self.each_call(check)
@@ -246,7 +250,8 @@ class Names(unittest.TestCase):
         for function, _ in CALLS:
             self.assertTrue(function.__module__.startswith("timedoors."))
         told = {
-            levels: 13, texts: 6, light: 6, trails: 7, tables: 5, far: 7, rests: 8,
+            levels: 13, texts: 6, light: 6, trails: 7, tables: 5, far: 7, rests: 8, endless: 7, houses: 5, hands: 10,
+            puzzles: 6, counting: 3, beside: 2, rescue: 2, reasons: 16, alike: 8,
         }
         for module, many in told.items():
             named = [function for function, _ in CALLS if function.__module__ == module.__name__]

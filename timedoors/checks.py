@@ -1,8 +1,9 @@
 """Refusals that many functions share: each check raises the error of its argument, or does nothing."""
 
-from timedoors.errors import InvalidHistory, InvalidLevel, InvalidLights, InvalidNumber
-from timedoors.errors import InvalidPresses, InvalidRoom, InvalidRuns
-from timedoors.kinds import fits_endless, fits_level, fits_lights, fits_presses, fits_room, fits_runs, is_count
+from timedoors.errors import InvalidHistory, InvalidHouse, InvalidLetters, InvalidLevel, InvalidLights, InvalidNumber
+from timedoors.errors import InvalidPresses, InvalidRoom, InvalidRuns, InvalidWalk, InvalidWalks
+from timedoors.kinds import fits_endless, fits_house, fits_letters, fits_level, fits_lights, fits_place, fits_presses
+from timedoors.kinds import fits_room, fits_runs, fits_walk, fits_walks, is_count
 
 
 def check_level(level):
@@ -49,3 +50,29 @@ def check_tick(ticks, tick):
     """A tick is one of so many ticks, counted from 0."""
     if not is_count(tick) or tick >= ticks:
         raise InvalidNumber(tick)
+
+
+def check_letters(level, letters):
+    if not fits_letters(level[0], letters):
+        raise InvalidLetters(letters)
+
+
+def check_house(house):
+    if not fits_house(house):
+        raise InvalidHouse(house)
+
+
+def check_walk(house, walk):
+    if not fits_walk(house, walk):
+        raise InvalidWalk(walk)
+
+
+def check_walks(house, walks):
+    if not fits_walks(house, walks):
+        raise InvalidWalks(walks)
+
+
+def check_stand(house, place):
+    """Where somebody can stand: a place of the house, told by its number."""
+    if not fits_place(house, place):
+        raise InvalidNumber(place)

@@ -69,3 +69,79 @@ def fits_letters(rooms, value):
     if not fits_presses(rooms, value) or len(value) == 0:
         return False
     return all([value[at] < value[at + 1] for at in range(len(value) - 1)])
+
+
+def fits_place(house, value):
+    return is_count(value) and value < len(house[1])
+
+
+def fits_step(rooms, places, value):
+    if not is_tuple_of(3, value):
+        return False
+    place, goal, needs = value
+    if not is_count(place) or not is_count(goal) or place == goal:
+        return False
+    return place < places and goal < places and fits_lights(rooms, needs)
+
+
+def fits_house(value):
+    if not is_tuple_of(3, value):
+        return False
+    level, plates, steps = value
+    if not fits_level(level) or not fits_presses(level[0], plates) or len(plates) == 0:
+        return False
+    return isinstance(steps, list) and all([fits_step(level[0], len(plates), step) for step in steps])
+
+
+def leads_of(house):
+    """The tuples of a place and of another one to which some step leads from it."""
+    return {(place, goal): True for place, goal, _ in house[2]}
+
+
+def fits_walk(house, value):
+    if not isinstance(value, list) or len(value) == 0:
+        return False
+    if not all([fits_place(house, place) for place in value]):
+        return False
+    leads = leads_of(house)
+    steps = list(zip(value, value[1:]))
+    return all([place == goal or (place, goal) in leads for place, goal in steps])
+
+
+def fits_walks(house, value):
+    return isinstance(value, list) and all([fits_walk(house, walk) for walk in value])
+
+
+def fits_stay(house, value):
+    return is_tuple_of(2, value) and fits_place(house, value[0]) and is_whole(value[1]) and value[1] >= 1
+
+
+def fits_stays(house, value):
+    if not isinstance(value, list) or len(value) == 0:
+        return False
+    if not all([fits_stay(house, stay) for stay in value]):
+        return False
+    leads = leads_of(house)
+    # No step leads from a place to itself, so places that are alike are refused by this, too.
+    return all([(value[at][0], value[at + 1][0]) in leads for at in range(len(value) - 1)])
+
+
+def fits_counts(value):
+    return isinstance(value, list) and all([is_count(number) for number in value])
+
+
+def is_press(value):
+    """A press is a tick and a room, of whatever presses."""
+    return is_tuple_of(2, value) and is_count(value[0]) and is_count(value[1])
+
+
+def fits_lot(value):
+    """A lot is an ascending list of presses, each once."""
+    if not isinstance(value, list) or not all([is_press(press) for press in value]):
+        return False
+    return all([value[at] < value[at + 1] for at in range(len(value) - 1)])
+
+
+def fits_numbers(many, value):
+    """An ascending list of numbers below so many, each once: these are told like lights."""
+    return fits_lights(many, value)

@@ -1,5 +1,21 @@
 """How what comes from ahead and what comes from behind meet: all grows from nothing on until it fits."""
 
+from timedoors.masks import mask_of
+
+
+def no_rest(machine):
+    """The rest row of no ticks: nothing is sent left, whatever comes in."""
+    return [0 for _ in range(1 << len(machine.rights))]
+
+
+def no_front(machine):
+    """The front row of no ticks: nothing is sent right, whatever comes in."""
+    return [0 for _ in range(1 << len(machine.lefts))]
+
+
+def tables_of_ticks(machine, presses):
+    return [machine.table_of_tick(mask_of(lights)) for lights in presses]
+
 
 def rest_before(machine, table, rest):
     """The rest row of a stretch with a told table, ahead of what has a told rest row."""
@@ -13,6 +29,15 @@ def rest_before(machine, table, rest):
             back = rest[right_row[start | back]]
         sent.append(left_row[start | back])
     return sent
+
+
+def rests_from(machine, tables, rest):
+    """For each stretch the rest row from it on, the told one behind the last of them; this one is the last item."""
+    rests = [rest]
+    for table in reversed(tables):
+        rests.append(rest_before(machine, table, rests[-1]))
+    rests.reverse()
+    return rests
 
 
 def front_after(machine, front, table):
@@ -36,3 +61,23 @@ def settle_between(machine, front, pressed, rest):
         right, left = front[sent_left], rest[sent_right]
         lit, sent_left, sent_right = machine.let_in(pressed, right, left)
     return lit, right, left
+
+
+def settle_onward(machine, coming, pressed, rest):
+    """What is lit at a tick, and what it sends right, if just `coming` comes in from the left."""
+    left = 0
+    lit, _, sent = machine.let_in(pressed, coming, left)
+    while rest[sent] != left:
+        left = rest[sent]
+        lit, _, sent = machine.let_in(pressed, coming, left)
+    return lit, sent
+
+
+def lit_onward(machine, presses, rest, coming):
+    """The masks that are lit at the ticks of presses ahead of a rest row, and what they send right in the end."""
+    rests = rests_from(machine, tables_of_ticks(machine, presses), rest)
+    masks = []
+    for tick, lights in enumerate(presses):
+        lit, coming = settle_onward(machine, coming, mask_of(lights), rests[tick + 1])
+        masks.append(lit)
+    return masks, coming

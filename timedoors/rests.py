@@ -5,7 +5,8 @@ from timedoors.errors import InvalidPresses, InvalidTable
 from timedoors.kinds import is_tuple_of
 from timedoors.machine import Machine, lights_by_index
 from timedoors.masks import lights_of, mask_of
-from timedoors.meeting import front_after, rest_before, settle_between
+from timedoors.meeting import front_after, no_front, no_rest, rest_before, rests_from, settle_between
+from timedoors.meeting import tables_of_ticks
 from timedoors.stretches import index_in, indexes_in_order, rises, table_of_presses
 
 
@@ -13,10 +14,8 @@ def rest_table(level, presses):
     check_level(level)
     check_presses(level, presses)
     machine = Machine(level)
-    rest = [0 for _ in range(1 << len(machine.rights))]
-    for lights in reversed(presses):
-        rest = rest_before(machine, machine.table_of_tick(mask_of(lights)), rest)
-    return told_row(machine.rights, machine.lefts, rest)
+    rests = rests_from(machine, tables_of_ticks(machine, presses), no_rest(machine))
+    return told_row(machine.rights, machine.lefts, rests[0])
 
 
 def told_row(came, sent, row):
@@ -75,9 +74,9 @@ def front_table(level, presses):
     check_level(level)
     check_presses(level, presses)
     machine = Machine(level)
-    front = [0 for _ in range(1 << len(machine.lefts))]
-    for lights in presses:
-        front = front_after(machine, front, machine.table_of_tick(mask_of(lights)))
+    front = no_front(machine)
+    for table in tables_of_ticks(machine, presses):
+        front = front_after(machine, front, table)
     return told_row(machine.lefts, machine.rights, front)
 
 
@@ -106,12 +105,18 @@ def settled(level, presses):
     if len(presses) == 0:
         raise InvalidPresses(presses)
     machine = Machine(level)
+    rest, many = settled_row(machine, presses)
+    return told_row(machine.rights, machine.lefts, rest), many
+
+
+def settled_row(machine, presses):
+    """The rest row to which presses settle, done again and again, and how often they are done until then."""
     once = table_of_presses(machine, presses)
-    rest = [0 for _ in range(1 << len(machine.rights))]
+    rest = no_rest(machine)
     more = rest_before(machine, once, rest)
     many = 0
     while more != rest:
         rest = more
         more = rest_before(machine, once, rest)
         many += 1
-    return told_row(machine.rights, machine.lefts, rest), many
+    return rest, many

@@ -1,0 +1,48 @@
+"""Going on from state to state, breadth first.
+
+`follow` is a function that tells, for a state, the list of tuples of a mark and of the state to which it
+leads, the marks ascending.
+"""
+
+
+def first_marks(start, follow, is_found):
+    """The first list of marks, shorter ones first, that leads to what is found, `None` if none does."""
+    if is_found(start):
+        return []
+    came = {start: None}
+    wave = [start]
+    while len(wave) > 0:
+        coming = []
+        for state in wave:
+            for mark, later in follow(state):
+                if later not in came:
+                    came[later] = (mark, state)
+                    coming.append(later)
+                    # All is met in the order of its first marks, so nothing ahead of this one is still to come.
+                    if is_found(later):
+                        return marks_to(came, later)
+        wave = coming
+    return None
+
+
+def marks_to(came, state):
+    marks = []
+    while came[state] is not None:
+        mark, state = came[state]
+        marks.append(mark)
+    marks.reverse()
+    return marks
+
+
+def all_states(start, follow):
+    """All states that are met, each with the list of what follows it."""
+    met = {}
+    wave = [start]
+    while len(wave) > 0:
+        coming = []
+        for state in wave:
+            if state not in met:
+                met[state] = follow(state)
+                coming.extend([later for _, later in met[state]])
+        wave = coming
+    return met

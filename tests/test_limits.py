@@ -24,7 +24,7 @@ def widest_level(draw, rights):
     return (6, doors)
 
 
-class Limits(unittest.TestCase):
+class Timed(unittest.TestCase):
 
     def timed(self, function, *arguments):
         before = copy.deepcopy(arguments)
@@ -33,6 +33,9 @@ class Limits(unittest.TestCase):
         self.assertLess(time.perf_counter() - start, SECONDS, function.__name__)
         self.assertTrue(same(arguments, before))
         return told
+
+
+class Limits(Timed):
 
     def setUp(self):
         draw = random.Random(30)

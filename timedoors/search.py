@@ -46,3 +46,16 @@ def all_states(start, follow):
                 coming.extend([later for _, later in met[state]])
         wave = coming
     return met
+
+
+def leads_to(start, follow, is_found, met):
+    """Whether what is found is met from a state on; `met` holds all states that were met in vain, and gets more."""
+    coming = [start]
+    while len(coming) > 0:
+        state = coming.pop()
+        if is_found(state):
+            return True
+        if state not in met:
+            met[state] = True
+            coming.extend([later for _, later in follow(state)])
+    return False

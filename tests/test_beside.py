@@ -10,7 +10,7 @@ from tests.plain_houses import (ALONE, BACK, CROSSED, FAR, SHUT, STILL, plainly_
 from timedoors.beside import how_many_beside, shortest_beside
 from timedoors.counting import how_many_walks
 from timedoors.errors import InvalidNumber, InvalidWalks
-from timedoors.hands import first_shut
+from timedoors.hands import debts, first_shut
 from timedoors.puzzles import shortest_walk
 
 LONGEST = 4
@@ -25,7 +25,18 @@ def drawn_rows():
     return rows
 
 
-ROWS = drawn_rows()
+def owing_rows():
+    """Elder hands alone, whose later steps are opened by ticks that come later still."""
+    draw = random.Random(413)
+    rows = []
+    for house in some_houses(413, 1500, 3, 6):
+        walks = some_walks(draw, house, draw.choice((1, 2)), 5)
+        if first_shut(house, walks) is None and any(tick > 0 for _, tick, _ in debts(house, walks)):
+            rows.append((house, walks))
+    return rows
+
+
+ROWS = drawn_rows() + owing_rows()
 
 
 def walks_beside(house, walks, start, goal, length):
@@ -82,6 +93,8 @@ class Beside(unittest.TestCase):
     def test_41_elder_hands_of_one_place_and_of_unlike_lengths(self):
         self.assertEqual([shortest_beside(ALONE, [[0]], 0, 0), how_many_beside(ALONE, [[0]], 0, 0, 60)], [[0], 1])
         self.assertEqual(shortest_beside(BACK, [[1, 1, 1]], 0, 1), [0, 1])
+        self.assertEqual([shortest_beside(BACK, [[0, 0, 0, 1]], 0, 0), how_many_beside(BACK, [[0, 0, 0, 1]], 0, 0, 1)],
+                         [[0], 1])
         self.assertEqual(shortest_beside(STILL, [[1], [0, 0]], 0, 1), [0, 0, 1])
         self.assertEqual([shortest_beside(SHUT, [[0], [0, 0]], 0, 1), shortest_beside(SHUT, [[1, 1]], 1, 1)], [None, [1]])
         self.assertEqual(shortest_beside(SHUT, [[1], [0, 1]], 1, 1), None)

@@ -167,6 +167,13 @@ class Keeps(unittest.TestCase):
         self.assertIs(keeps_for_ever(led, ([], [[]]), ([[0, 1]], [[0, 1]])), True)
         self.assertIs(keeps_for_ever(led, ([], [[]]), ([[0], []], [[]])), True)
 
+    def test_26_ticks_ahead_are_looked_at_in_both(self):
+        late = ([[], [], [], [], [], [0]], [[]])
+        self.assertIs(keeps_for_ever((1, []), late, ([], [[]])), False)
+        self.assertIs(keeps_for_ever((1, []), late, ([], [[], [0]])), True)
+        self.assertIs(keeps_for_ever((1, []), ([], [[]]), late), True)
+        self.assertIs(keeps_for_ever((1, [([0], 0, 1)]), ([], [[]]), late), False)
+
     def test_26_other_values_are_refused_by_false(self):
         for value in (None, [], ([[]],), ([], []), [[], [[]]], ([], [[2]]), ([[0, 0]], [[]]), ([], [[True]]), ([], ([],)),
                       ([], [[]], []), "", 0, {}):

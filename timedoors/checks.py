@@ -52,6 +52,14 @@ def check_tick(ticks, tick):
         raise InvalidNumber(tick)
 
 
+def check_room_at(level, presses, tick, room):
+    """What many functions take: a level, presses, one of their ticks and a room."""
+    check_level(level)
+    check_presses(level, presses)
+    check_tick(len(presses), tick)
+    check_room(level, room)
+
+
 def check_letters(level, letters):
     if not fits_letters(level[0], letters):
         raise InvalidLetters(letters)

@@ -1,6 +1,6 @@
 """Reasons: which presses a lit room owes its light to."""
 
-from timedoors.checks import check_level, check_presses, check_room, check_tick
+from timedoors.checks import check_level, check_presses, check_room, check_room_at, check_tick
 from timedoors.errors import InvalidNumber, InvalidPresses
 from timedoors.kinds import fits_lot, is_whole
 from timedoors.lots import crossing_masks, least_of
@@ -53,13 +53,6 @@ def others_of(presses, lot):
     return [press for press in all_presses(presses) if press not in lot]
 
 
-def check_lit(level, presses, tick, room):
-    check_level(level)
-    check_presses(level, presses)
-    check_tick(len(presses), tick)
-    check_room(level, room)
-
-
 def does_light(level, ticks, lot, tick, room):
     return light_masks(level, only_pressed(ticks, lot))[tick] >> room & 1 == 1
 
@@ -89,24 +82,24 @@ def lots_told(items, masks):
 
 
 def reasons(level, presses, tick, room):
-    check_lit(level, presses, tick, room)
+    check_room_at(level, presses, tick, room)
     return lots_told(all_presses(presses), reason_masks(level, presses, tick, room))
 
 
 def cuts(level, presses, tick, room):
-    check_lit(level, presses, tick, room)
+    check_room_at(level, presses, tick, room)
     return lots_told(all_presses(presses), crossing_masks(reason_masks(level, presses, tick, room)))
 
 
 def is_reason(level, presses, tick, room, value):
-    check_lit(level, presses, tick, room)
+    check_room_at(level, presses, tick, room)
     if not is_lot_of(presses, value) or not does_light(level, len(presses), value, tick, room):
         return False
     return not any([does_light(level, len(presses), part, tick, room) for part in parts_of(value)])
 
 
 def is_cut(level, presses, tick, room, value):
-    check_lit(level, presses, tick, room)
+    check_room_at(level, presses, tick, room)
     if not is_lot_of(presses, value) or does_light(level, len(presses), others_of(presses, value), tick, room):
         return False
     others = [others_of(presses, part) for part in parts_of(value)]
@@ -140,7 +133,7 @@ def first_of_fewest(lots):
 
 
 def sure_presses(level, presses, tick, room):
-    check_lit(level, presses, tick, room)
+    check_room_at(level, presses, tick, room)
     masks = reason_masks(level, presses, tick, room)
     if len(masks) == 0:
         return []
@@ -148,13 +141,13 @@ def sure_presses(level, presses, tick, room):
 
 
 def idle_presses(level, presses, tick, room):
-    check_lit(level, presses, tick, room)
+    check_room_at(level, presses, tick, room)
     masks = reason_masks(level, presses, tick, room)
     return [press for at, press in enumerate(all_presses(presses)) if not any([mask >> at & 1 for mask in masks])]
 
 
 def how_many_light(level, presses, tick, room):
-    check_lit(level, presses, tick, room)
+    check_room_at(level, presses, tick, room)
     return sum(lots_that_light(level, presses, tick, room))
 
 

@@ -1,6 +1,6 @@
 """Papers for both answers: trails for lit rooms, closed histories for dark ones."""
 
-from timedoors.checks import check_level, check_presses, check_room, check_tick
+from timedoors.checks import check_level, check_presses, check_room_at
 from timedoors.keeping import count_keeping, is_keeping
 from timedoors.kinds import fits_room, is_count, is_tuple_of
 from timedoors.masks import lights_of, mask_of
@@ -9,15 +9,8 @@ from timedoors.spread import light_masks, round_numbers
 PRESS = ("press",)
 
 
-def check_place(level, presses, tick, room):
-    check_level(level)
-    check_presses(level, presses)
-    check_tick(len(presses), tick)
-    check_room(level, room)
-
-
 def is_trail(level, presses, tick, room, value):
-    check_place(level, presses, tick, room)
+    check_room_at(level, presses, tick, room)
     if not isinstance(value, list) or len(value) == 0:
         return False
     stands = {}
@@ -51,7 +44,7 @@ def is_given(level, presses, stands, line):
 
 
 def first_trail(level, presses, tick, room):
-    check_place(level, presses, tick, room)
+    check_room_at(level, presses, tick, room)
     numbers = round_numbers(level, presses)
     if numbers[tick][room] is None:
         return None
@@ -87,24 +80,24 @@ def is_earlier(numbers, one, other):
 
 
 def trail_depth(level, presses, tick, room):
-    check_place(level, presses, tick, room)
+    check_room_at(level, presses, tick, room)
     return round_numbers(level, presses)[tick][room]
 
 
 def is_dark_paper(level, presses, tick, room, value):
-    check_place(level, presses, tick, room)
+    check_room_at(level, presses, tick, room)
     return is_keeping(level, presses, value) and room not in value[tick]
 
 
 def how_many_without(level, presses, tick, room):
-    check_place(level, presses, tick, room)
+    check_room_at(level, presses, tick, room)
     banned = [0 for _ in presses]
     banned[tick] = 1 << room
     return count_keeping(level, presses, banned)
 
 
 def givers(level, presses, tick, room):
-    check_place(level, presses, tick, room)
+    check_room_at(level, presses, tick, room)
     return giving_doors(level, light_masks(level, presses), tick, room)
 
 

@@ -4,6 +4,7 @@ import itertools
 import random
 
 from timedoors import errors
+from timedoors.play import Play
 
 HALL = (3, [([0, 1], 2, 0), ([2], 0, 1), ([], 1, -1)])
 BACK = (3, [([0], 1, 0), ([1], 2, -1), ([2], 2, -1)])
@@ -25,7 +26,7 @@ def odd_values():
     tuples = [(0,), ([],), ([], []), (0, []), (None, None), ([], [], [], []), ((), ()), (True, []), ("a", "b", "c")]
     dicts = [{0: []}, {"rooms": 1}, {(0, 1): [None]}]
     own = [errors.DoorError(), errors.InvalidNumber([1]), errors.NothingToUndo(), [errors.TooMany()],
-           (errors.InvalidRoom(0), [])]
+           (errors.InvalidRoom(0), []), Play((1, [])), [Play((1, []))], ("press", Play((1, [])))]
     return plain + lists + tuples + dicts + own
 
 
@@ -78,7 +79,7 @@ def small_levels():
     return levels
 
 
-def some_levels(seed, many, rooms, doors):
+def some_levels(seed, many, rooms, doors, shifts=(-1, 0, 1)):
     """Levels drawn by a generator with a told seed, so each run has the same ones."""
     draw = random.Random(seed)
     levels = []
@@ -87,7 +88,7 @@ def some_levels(seed, many, rooms, doors):
         made = []
         for _ in range(draw.randint(0, doors)):
             needs = sorted(draw.sample(range(count), draw.randint(0, min(count, 2))))
-            made.append((needs, draw.randrange(count), draw.choice((-1, 0, 1))))
+            made.append((needs, draw.randrange(count), draw.choice(shifts)))
         levels.append((count, made))
     return levels
 

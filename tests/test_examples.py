@@ -8,17 +8,28 @@ from timedoors.beside import how_many_beside, shortest_beside
 from timedoors.counting import how_many_walks, number_of_walk, walk_numbered
 from timedoors.endless import added, changed, for_ever, for_ever_at, keeps_for_ever, reach_back, stays_from
 from timedoors.far import far_dark_paper, far_light, far_table, first_lit, is_far_dark, last_lit, times_lit
+from timedoors.founded import agreeing, all_founded, first_founded, founded_counts, founded_light, how_many_founded
+from timedoors.founded import is_founded
 from timedoors.hands import are_stays, debts, earned, far_steps, first_shut, greatest_playable, open_steps, opened_by
 from timedoors.hands import put_off, why_unplayable
+from timedoors.horizon import fewest_time_doors, hangs_ahead, horizon, unlike_ahead
 from timedoors.houses import hands_light, is_house, is_walk, pressed_by, steps_between
+from timedoors.layered import is_layered_history, layered_by, layered_endless, layered_history, swayed
+from timedoors.layers import are_layers, dark_ring, is_dark_level, is_dark_ring, layers, with_darks
 from timedoors.levels import are_endless, are_letters, are_presses, are_runs, both_pressed, how_many_ticks, is_door
 from timedoors.levels import is_level, left_rooms, plain_endless, pressed_at, right_rooms, spread_out
 from timedoors.light import common, gained, how_many_keep, keeps, light, lit_rounds
+from timedoors.lines import good_part, of_recording, recording
+from timedoors.longdoors import is_long_level, long_far_light, long_light, mirrored, near_level, reach_of, slowed
+from timedoors.paradox import first_paradox, forced_by, founded_ticks, freed_by, is_paradox, least_paradox
+from timedoors.play import Play, is_deed
 from timedoors.puzzles import is_no_walk_paper, no_walk_paper, shortest_lighting, shortest_walk, state_of, states_met
 from timedoors.reasons import alone, crossing, cuts, fewest_cut, fewest_reason, how_many_light, idle_presses, is_added
 from timedoors.reasons import is_cut, is_reason, presses_in, reasons, sure_presses, together, with_only, without
 from timedoors.rescue import rescue, settled_past
 from timedoors.rests import front_behind, front_table, is_front, is_rest, lit_between, rest_ahead, rest_table, settled
+from timedoors.seen import agreeing_with, agrees, best_looks, clash, crossed, fewest_looks, how_many_agree
+from timedoors.seen import is_needed_look, looks_needed, open_lights, sure_lights, tells_apart, worth_looking
 from timedoors.tables import can_stand_for, is_table, joined, repeats, table_of
 from timedoors.texts import history_in, level_of_text, picture, presses_of_text, text_of_level, text_of_presses
 from timedoors.trails import first_trail, givers, how_many_without, is_dark_paper, is_trail, sole_light, trail_depth
@@ -248,6 +259,131 @@ class Examples(unittest.TestCase):
             [idle_doors(twice, [[], [0]], [1, 2]), least_lots(twice, [[], [0]], [1, 2]),
              least_lots(twice, [[], [0]], [1]), is_enough(twice, [[], [0]], [2], [2])],
             [[0, 1, 3], [[0, 2], [1, 2]], [[0], [1]], False])
+
+
+    def test_examples_of_horizon(self):
+        back = (2, [([0], 1, -1)])
+        twice = (3, [([0], 1, 0), ([0], 1, 0), ([1], 2, -1), ([2], 2, 0)])
+        self.told(fewest_time_doors(twice, [[], [0]], [1, 2]), [2])
+        self.told(
+            [hangs_ahead(twice, [[], [0]], [1]), hangs_ahead(twice, [[], [0]], [1, 2]), hangs_ahead(back, [[0]], [1]),
+             fewest_time_doors(twice, [[], [0]], [1])],
+            [False, True, False, []])
+        turning, forth = (3, [([0], 1, -1), ([1], 2, -1), ([1], 1, -1)]), (3, [([0], 1, -1), ([1], 2, 1)])
+        self.told(
+            [horizon((3, [([0], 1, -1), ([1], 2, -1)]), [[], [0]], [2]), horizon(turning, [[], [0]], [2]),
+             horizon(forth, [[], [0]], [2]), fewest_time_doors(forth, [[], [0]], [2]),
+             unlike_ahead(forth, [[], [0]], [2], 0)],
+            [2, None, 0, [0], None])
+
+    def test_examples_of_longdoors(self):
+        far = (2, [([0], 1, 3), ([1], 0, -2)])
+        self.told(
+            [is_long_level(far), is_level(far), is_long_level((1, [([], 0, 10)])), long_light(far, [[0], [], [], [], []]),
+             long_light(far, [[], [], [], [1], []])],
+            [True, False, False, [[0], [0], [0], [1], [1]], [[], [0], [0], [1], [1]]])
+        self.told(near_level(far), (5, [([0], 2, 1), ([2], 3, 1), ([3], 1, 1), ([1], 4, -1), ([4], 0, -1)]))
+        self.told(
+            near_level((2, [([0], 1, 2), ([], 0, 0), ([0], 0, 3)])),
+            (4, [([], 0, 0), ([0], 2, 1), ([2], 3, 1), ([2], 1, 1), ([3], 0, 1)]))
+        self.told(
+            [slowed((2, [([0], 1, 1), ([1], 0, 0)]), 3), mirrored(far), mirrored(mirrored(far)) == far, slowed(far, 2)],
+            [(2, [([0], 1, 3), ([1], 0, 0)]), (2, [([0], 1, -3), ([1], 0, 2)]), True, (2, [([0], 1, 6), ([1], 0, -4)])])
+        self.told(
+            [long_far_light(far, [([], 10 ** 20), ([1], 1), ([], 9)], 10 ** 20 - 2),
+             reach_of(far, [([], 10 ** 20), ([1], 1), ([], 9)], 1), reach_of(far, [([], 4)], 0)],
+            [[0], (100000000000000000000, 100000000000000000009), None])
+
+    def test_examples_of_layers(self):
+        night = (3, [([0], [], 1, 1), ([], [1], 2, -1)])
+        self.told(
+            [is_dark_level(night), is_dark_level((3, [([0], 1, 1)])), with_darks((2, [([0], 1, -1)])), layers(night),
+             are_layers(night, [3, 3, 5]), are_layers(night, [0, 1, 1])],
+            [True, False, (2, [([0], [], 1, -1)]), [0, 0, 1], True, False])
+        self.told(
+            [layered_history(night, [[0], [], []]), layered_by(night, [2, 2, 4], [[0], []]),
+             is_layered_history(night, [[0], [], []], [[0], [1, 2], []]), layered_endless(night, ([[0]], [[]]))],
+            [[[0], [1, 2], []], [[0], [1]], True, ([[0], [1, 2]], [[2]])])
+        cheat = (2, [([0], [], 1, 1), ([], [1], 0, -1)])
+        self.told(
+            [layers(cheat), dark_ring(cheat), is_dark_ring(cheat, [1, 0]), dark_ring(night), swayed(night, 0, 2),
+             swayed(night, 2, 0), swayed(night, 1, 1)],
+            [None, [0, 1], False, None, (False, True), (False, False), (True, False)])
+
+    def test_examples_of_founded_and_paradox(self):
+        cheated, either = (1, [([], [0], 0, 0)]), (2, [([], [0], 1, 0), ([], [1], 0, 0)])
+        turned = (2, [([], [0], 1, 1), ([1], [], 0, -1)])
+        self.told(
+            [is_founded(either, [[]], [[0]]), is_founded(either, [[]], [[0, 1]]), is_founded(cheated, [[]], [[0]]),
+             founded_light(cheated, [[]], [[0]]), is_founded(cheated, [[0]], [[0]])],
+            [True, False, False, [[]], True])
+        self.told(
+            [first_founded(either, [[], []]), all_founded(either, [[], [1]]), first_founded(cheated, [[]]),
+             how_many_founded(either, [[]] * 30), founded_counts(either, [[], [0]], 4)],
+            [[[0], [0]], [[[0], [1]], [[1], [1]]], None, 1073741824, [1, 2, 2, 4, 4]])
+        self.told(
+            [agreeing(either, [[], [1]]), agreeing(cheated, [[]]), is_paradox(turned, [[]]), is_paradox(turned, [[], []]),
+             first_paradox(turned, [[], [0]])],
+            [([[], [1]], [[0, 1], [1]]), None, False, True, [[], []]])
+        self.told(
+            [founded_ticks(turned, [[]]), least_paradox(turned, [[]]), least_paradox(turned, [[0]]),
+             founded_ticks(cheated, [[0], []]), first_paradox(either, [[], [0, 1]])],
+            [([True, True], [False]), 2, None, ([True, True], [False]), None])
+        self.told(
+            [forced_by(cheated, [[0], [0]]), freed_by(turned, [[], []]), freed_by(cheated, [[], [0]])],
+            [[], [(0, 0), (1, 1)], [(0, 0)]])
+
+    def test_examples_of_seen(self):
+        either, two = (2, [([], [0], 1, 0), ([], [1], 0, 0)]), [[], []]
+        self.told(
+            [how_many_agree(either, two, []), agreeing_with(either, two, [(0, 0, True)]),
+             agrees(either, two, [(0, 0, True)], [[1], [0]])],
+            [4, [[[0], [0]], [[0], [1]]], False])
+        self.told(
+            [sure_lights(either, two, [(0, 0, True)]), open_lights(either, two, [(0, 0, True)]),
+             worth_looking(either, two, [(0, 0, True)]), best_looks(either, two, []), looks_needed(either, two, [])],
+            [[[0], []], [[0], [0, 1]], [(1, 0), (1, 1)], [(0, 0), (0, 1), (1, 0), (1, 1)], 2])
+        self.told(
+            [tells_apart(either, two, [(0, 0), (1, 1)]), fewest_looks(either, two),
+             is_needed_look(either, two, [(0, 0), (0, 1), (1, 0)], 0, 0),
+             is_needed_look(either, two, [(0, 0), (0, 1), (1, 0)], 1, 0)],
+            [True, [(0, 0), (1, 0)], False, True])
+        self.told(
+            [clash(either, two, [(0, 0, True), (0, 1, True), (1, 0, False)]), clash(either, two, [(1, 0, False)]),
+             clash((1, [([], [0], 0, 0)]), [[]], [])],
+            [[(0, 0, True), (0, 1, True)], None, []])
+
+    def test_examples_of_crossed(self):
+        turns = (3, [([], [1], 2, 0), ([], [2], 1, 0), ([1], [], 0, 1), ([2], [], 0, -1)])
+        first, second = [[1], [0, 1], [0, 1]], [[2], [0, 1], [0, 2]]
+        self.told(
+            [crossed(turns, [[], [], []], second, first, 1), crossed(turns, [[], [], []], first, first, 1),
+             crossed((2, [([], [0], 1, 0), ([], [1], 0, 0)]), [[], []], [[0], [0]], [[1], [1]], 0)],
+            [None, [[1], [0, 1], [0, 1]], [[0], [1]]])
+
+    def test_examples_of_lines_and_play(self):
+        hall = (3, [([0, 1], 2, 0), ([2], 0, 1), ([0], 1, -1)])
+        self.told(
+            [recording(hall, [[0], []]), of_recording("1:\n0\n"), good_part("1:\n0\n-\n0"), good_part("1:"),
+             good_part("1:\n1\n")],
+            ["3: 0.1=2 2>0 0<1\n0\n-\n", ((1, []), [[0]]), ((1, []), [[0], []], 7), (None, [], 0), ((1, []), [], 3)])
+        play = Play(hall)
+        play.do(("tick", [0]))
+        play.do(("tick", []))
+        self.told(
+            [play.shown(), play.otherwise(("press", 1, [0])), is_deed(play, ("press", 0, [0])), is_deed(play, ("cut", 2)),
+             is_deed(play, ("lift", 0, []))],
+            [[[0], []], [(0, 1), (0, 2), (1, 0)], False, False, False])
+        play.do(("press", 1, [0]))
+        self.told(
+            [play.shown(), play.presses(), play.shown_at(0), play.seen_now()],
+            [[[0, 1, 2], [0]], [[0], [0]], [0, 1, 2], [[0], []]])
+        play.do(("read", "3: 0.1=2 2>0 0<1\n0\n"))
+        self.told(
+            [play.shown(), play.otherwise(("cut", 1)), play.undo(), len(play.log()), play == play.copy()],
+            [[[0, 1, 2], [0, 1, 2], [0]], [(0, 1), (0, 2), (1, 0), (1, 1), (1, 2), (2, 0)], None, 3, True])
+        self.told(
+            [play.told(), play.redo(), play.level() == hall], ["3: 0.1=2 2>0 0<1\n0\n0\n", None, True])
 
 
 if __name__ == "__main__":

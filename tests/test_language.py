@@ -125,10 +125,10 @@ class Language(unittest.TestCase):
                     self.assertNotIsInstance(part.value, (float, complex, bytes))
             imported = {told.name for part in tree.body if isinstance(part, ast.ImportFrom) for told in part.names}
             for name in names_bound(tree):
-                self.assertFalse(name != "__init__" and hasattr(builtins, name), name)
+                self.assertFalse(name not in ("__init__", "__eq__") and hasattr(builtins, name), name)
                 self.assertNotIn(name, imported)
                 self.assertNotIn(name, BARRED_WORDS)
-                self.assertRegex(name, r"^(_|_?[A-Za-z][A-Za-z0-9_]*|__init__)$")
+                self.assertRegex(name, r"^(_|_?[A-Za-z][A-Za-z0-9_]*|__init__|__eq__)$")
         self.each_file(check)
 
     def test_strings(self):

@@ -10,10 +10,12 @@ import unittest
 
 from tests import wrong
 from tests.calls import CALLS_OF_STAGE_3, CALLS_OF_STAGE_4
+from tests.calls_of_darks import CALLS_OF_STAGE_5, CALLS_OF_STAGE_6
 from tests.helpers import BACK, HALL, RELAY, lists_in, odd_values, same
 from tests.wrong import ANY
-from timedoors import alike, beside, counting, endless, errors, far, hands, houses, levels, light, puzzles, reasons
-from timedoors import rescue, rests, tables, texts, trails
+from timedoors import alike, beside, counting, endless, errors, far, founded, hands, horizon, houses, layered, layers
+from timedoors import levels, light, lines, longdoors, paradox, play, puzzles, reasons, rescue, rests, seen, tables
+from timedoors import texts, trails
 
 KEYED = [[], [0, 1], [0]]
 RUNS = [([], 10 ** 20), ([0], 1), ([1], 3)]
@@ -122,7 +124,7 @@ CALLS = [
     (rests.lit_between, [RELAYED, ("front", FRONT, WRONG_FRONTS, errors.InvalidTable), RELAY_LIGHTS,
                          ("rest", REST, WRONG_RESTS, errors.InvalidTable)]),
     (rests.settled, [RELAYED, ("presses", [[0], []], wrong.PRESSES + [[], [[2]]], errors.InvalidPresses)]),
-] + CALLS_OF_STAGE_3 + CALLS_OF_STAGE_4
+] + CALLS_OF_STAGE_3 + CALLS_OF_STAGE_4 + CALLS_OF_STAGE_5 + CALLS_OF_STAGE_6
 
 
 def good_values(parameters):
@@ -173,7 +175,8 @@ class Calls(unittest.TestCase):
 
     def test_2_any_value_is_judged_by_true_or_false(self):
         values = odd_values() + wrong.PRESSES + wrong.LEVELS + WRONG_TABLES + wrong.RUNS + wrong.ENDLESS + wrong.LETTERS
-        values += wrong.HOUSES + wrong.WALK + wrong.STAYS + wrong.LOTS + wrong.LOT + wrong.NUMBERS
+        values += wrong.HOUSES + wrong.WALK + wrong.STAYS + wrong.LOTS + wrong.LOT + wrong.NUMBERS + wrong.LONG_LEVELS
+        values += wrong.DARK_LEVELS + wrong.RINGS + wrong.COUNTS_OF_LAYERS + wrong.LOOKS + wrong.SEEN + wrong.RECORDINGS
 
         def check(function, parameters):
             for value in values if parameters[-1] is ANY else []:
@@ -230,15 +233,18 @@ class Calls(unittest.TestCase):
 
     def test_3_errors_are_told_beyond_the_limits(self):
         rooms = 10 ** 29
-        level = (rooms, [([room], room + 1, shift) for room in range(40) for shift in (-1, 0, 1)])
+        # No room is room 2, of which the dark level needs that it is dark: so this one has layers.
+        level = (rooms, [([room], room + 1, shift) for room in range(3, 40) for shift in (-1, 0, 1)])
 
         def check(function, parameters):
             for at, (_, _, _, error) in enumerate(parameters):
                 ahead = [name for name, _, _, _ in parameters[:at]]
-                tables_ahead = [name for name in ahead if name in ("front", "rest", "one")]
+                tables_ahead = [name for name in ahead if name in ("front", "rest", "one", "counts")]
                 if ahead[:1] in (["level"], ["house"]) and error is not None and not tables_ahead:
                     values = good_values(parameters)
-                    values[0] = level if ahead[0] == "level" else (level, *values[0][1:])
+                    is_dark = any(len(door) == 4 for door in values[0][1]) if ahead[0] == "level" else False
+                    good = wrong.with_darks(level) if is_dark else level
+                    values[0] = good if ahead[0] == "level" else (level, *values[0][1:])
                     values[at] = None
                     self.refused(function, values, error, None)
         self.each_call(check)
@@ -251,7 +257,8 @@ class Names(unittest.TestCase):
             self.assertTrue(function.__module__.startswith("timedoors."))
         told = {
             levels: 13, texts: 6, light: 6, trails: 7, tables: 5, far: 7, rests: 8, endless: 7, houses: 5, hands: 10,
-            puzzles: 6, counting: 3, beside: 2, rescue: 2, reasons: 16, alike: 8,
+            puzzles: 6, counting: 3, beside: 2, rescue: 2, reasons: 16, alike: 8, horizon: 4, longdoors: 7, layers: 6,
+            layered: 5, founded: 7, paradox: 6, seen: 13, lines: 3, play: 1,
         }
         for module, many in told.items():
             named = [function for function, _ in CALLS if function.__module__ == module.__name__]

@@ -94,3 +94,45 @@ NUMBERS = [
     None, True, 0, "", (), (0,), {}, {0: True}, [3], [-1], [1, 0], [0, 0], [True], [False], [None], ["0"], [[0]],
     [0, 1, 2, 3], [10 ** 29], [0, 3],
 ]
+
+# Of three rooms: what is wrong of a level is wrong of a long one, but for the shifts that long doors may have.
+LONG_LEVELS = [level for level in LEVELS if level not in ((3, [([0], 1, 2)]), (3, [([0], 1, -2)]))] + [
+    (3, [([0], 1, 10)]), (3, [([0], 1, -10)]), (3, [([0], 1, 9), ([0], 1, 10)]), (3, [([], [], 1, 9)]),
+]
+
+
+def with_darks(level):
+    """A wrong level as a dark one, if it is a tuple whose doors have three parts."""
+    if isinstance(level, tuple) and len(level) == 2 and isinstance(level[1], list):
+        doors = [(door[0], [2], *door[1:]) if isinstance(door, tuple) and len(door) == 3 else door for door in level[1]]
+        return level[0], doors
+    return level
+
+
+DARK_LEVELS = [with_darks(level) for level in LEVELS] + [(3, [([0], 1, 0)]), (3, [([0], [1], 1, 0, 0)]), (3, [([0], [1], 1)])] + [
+    (3, [([0], lights, 1, 0)]) for lights in LIGHTS
+]
+# Dark levels without layers.
+RINGS = [(1, [([], [0], 0, 0)]), (3, [([0], [1], 2, 1), ([2], [], 1, -1)]), (3, [([], [1], 2, 0), ([], [2], 1, 0)])]
+# For the dark level in whose layers room 2 stands above room 1, and this not below room 0.
+COUNTS_OF_LAYERS = [
+    None, True, 0, "", "001", (), (0, 0, 1), {}, {0: 0, 1: 0, 2: 1}, [], [0, 0], [0, 0, 1, 1], [0, 0, 0], [1, 0, 1],
+    [0, 1, 1], [0, 2, 1], [0, 0, -1], [-1, 0, 1], [0, 0, True], [False, 0, 1], [0, 0, None], [0, 0, "1"], [0, 0, [1]],
+    [[0], 0, 1], [0, 0, (1,)],
+]
+# For three rooms and two ticks.
+LOOKS = [
+    None, True, 0, "", (), ((0, 0),), {}, {(0, 0): True}, [None], [0], [()], [[]], [(0,)], [[0, 0]], [(0, 0, True)], [(2, 0)],
+    [(0, 3)], [(-1, 0)], [(0, -1)], [(True, 0)], [(0, False)], [("0", 0)], [(0, None)], [(0, 0), (0, 0)],
+    [(0, 1), (0, 0)], [(1, 0), (0, 1)], [(0, 0), None], [(10 ** 29, 0)], [(0, 10 ** 29)],
+]
+SEEN = [
+    None, True, 0, "", (), ((0, 0, True),), {}, {(0, 0): True}, [None], [0], [()], [[]], [(0, 0)], [[0, 0, True]],
+    [(0, 0, True, 0)], [(0, 0, 1)], [(0, 0, 0)], [(0, 0, None)], [(0, 0, "")], [(0, 0, [])],
+    [(0, 0, True), (0, 0, True)], [(0, 0, False), (0, 0, True)], [(0, 0, True), (0, 0, False)],
+] + [[(*look, True) for look in looks] for looks in LOOKS if isinstance(looks, list) and looks[-1] is not None
+     and all(isinstance(look, tuple) and len(look) == 2 for look in looks)]
+RECORDINGS = [
+    None, 0, True, [], (), {}, ["1:\n"], "", "\n", "1:", "1", "3:\n0", "3:\n3\n", "3:\n\n", "3: \n", "3:\n0\nx\n",
+    "\n3:\n", "3:\n0 0\n", "3:\n0\n\n", "0:\n", "03:\n", "3:\t\n",
+]

@@ -8,6 +8,7 @@ rooms were lit alike at all ticks so far.
 from timedoors.checks import check_letters, check_level, check_lights, check_room
 from timedoors.errors import InvalidNumber, Unlike
 from timedoors.kinds import fits_numbers, fits_presses
+from timedoors.levels import copy_of_level
 from timedoors.masks import mask_of
 from timedoors.search import first_marks
 from timedoors.spread import light_masks
@@ -123,11 +124,6 @@ def without_doors(level, numbers):
     return copy_of_level(without_numbers(level, numbers))
 
 
-def copy_of_level(level):
-    rooms, doors = level
-    return rooms, [(list(needs), room, shift) for needs, room, shift in doors]
-
-
 def without_numbers(level, numbers):
     rooms, doors = level
     return rooms, [door for number, door in enumerate(doors) if number not in numbers]
@@ -144,27 +140,41 @@ def check_watched(level, letters, watched):
     check_lights(level, watched)
 
 
+class Whole:
+    """A level against which parts of it are held."""
+
+    def __init__(self, level, letters, watched):
+        self.full = level
+        self.letters = letters
+        self.watched = watched
+        self.partings = []
+
+    def is_like(self, numbers):
+        """Whether the doors with these numbers alone are enough."""
+        part = with_numbers(self.full, numbers)
+        # A list that parts another part from the level often parts this one, too, and then saves a search.
+        if any([does_part(self.full, part, self.watched, presses) for presses in self.partings]):
+            return False
+        first = first_parting(self.full, part, self.letters, self.watched)
+        if first is not None:
+            self.partings.append(first)
+        return first is None
+
+
 def idle_doors(level, letters, watched):
     check_watched(level, letters, watched)
-    numbers = range(len(level[1]))
-    return [number for number in numbers
-            if first_parting(level, without_numbers(level, [number]), letters, watched) is None]
+    whole = Whole(level, letters, watched)
+    numbers = list(range(len(level[1])))
+    return [number for number in numbers if whole.is_like(numbers[:number] + numbers[number + 1:])]
 
 
 def least_lots(level, letters, watched):
     check_watched(level, letters, watched)
+    whole = Whole(level, letters, watched)
     least = []
-    partings = []
     for lot in sorted(all_lots(len(level[1])), key=len):
-        if not any([is_within(less, lot) for less in least]):
-            lesser = with_numbers(level, lot)
-            # A list that parts another lot from the level often parts this one, too, and then saves a search.
-            if not any([does_part(level, lesser, watched, presses) for presses in partings]):
-                first = first_parting(level, lesser, letters, watched)
-                if first is None:
-                    least.append(lot)
-                else:
-                    partings.append(first)
+        if not any([is_within(less, lot) for less in least]) and whole.is_like(lot):
+            least.append(lot)
     return sorted(least)
 
 
@@ -184,4 +194,4 @@ def is_enough(level, letters, watched, value):
     check_watched(level, letters, watched)
     if not fits_numbers(len(level[1]), value):
         return False
-    return first_parting(level, with_numbers(level, value), letters, watched) is None
+    return Whole(level, letters, watched).is_like(value)

@@ -1,9 +1,10 @@
 """Refusals that many functions share: each check raises the error of its argument, or does nothing."""
 
 from timedoors.errors import InvalidHistory, InvalidHouse, InvalidLetters, InvalidLevel, InvalidLights, InvalidNumber
-from timedoors.errors import InvalidPresses, InvalidRoom, InvalidRuns, InvalidWalk, InvalidWalks
-from timedoors.kinds import fits_endless, fits_house, fits_letters, fits_level, fits_lights, fits_place, fits_presses
-from timedoors.kinds import fits_room, fits_runs, fits_walk, fits_walks, is_count
+from timedoors.errors import InvalidPresses, InvalidRoom, InvalidRuns, InvalidText, InvalidWalk, InvalidWalks
+from timedoors.kinds import fits_dark_level, fits_endless, fits_house, fits_letters, fits_level, fits_lights
+from timedoors.kinds import fits_long_level, fits_place, fits_presses, fits_room, fits_runs, fits_walk, fits_walks
+from timedoors.kinds import is_count
 
 
 def check_level(level):
@@ -11,9 +12,32 @@ def check_level(level):
         raise InvalidLevel(level)
 
 
+def check_long_level(level):
+    if not fits_long_level(level):
+        raise InvalidLevel(level)
+
+
+def check_dark_level(level):
+    if not fits_dark_level(level):
+        raise InvalidLevel(level)
+
+
 def check_presses(level, presses):
     if not fits_presses(level[0], presses):
         raise InvalidPresses(presses)
+
+
+def check_dark_presses(level, presses):
+    """What many functions take: a dark level and presses of its rooms."""
+    check_dark_level(level)
+    check_presses(level, presses)
+
+
+def check_turn(level, turn):
+    """Presses of a dark level that are done again and again."""
+    check_dark_presses(level, turn)
+    if len(turn) == 0:
+        raise InvalidPresses(turn)
 
 
 def check_history(level, history):
@@ -58,6 +82,11 @@ def check_room_at(level, presses, tick, room):
     check_presses(level, presses)
     check_tick(len(presses), tick)
     check_room(level, room)
+
+
+def check_text(text):
+    if not isinstance(text, str):
+        raise InvalidText(text)
 
 
 def check_letters(level, letters):

@@ -3,11 +3,11 @@
 from timedoors.checks import check_count, check_endless, check_level, check_lights, check_presses, check_tick
 from timedoors.errors import InvalidNumber
 from timedoors.kinds import fits_endless, is_count
-from timedoors.levels import both_pressed, plain_endless, pressed_at
+from timedoors.levels import both_pressed, pressed_at
 from timedoors.machine import Machine
 from timedoors.masks import door_masks, lights_of, mask_of
-from timedoors.meeting import lit_onward, no_rest, rest_before, rests_from, tables_of_ticks
-from timedoors.rests import settled_row
+from timedoors.meeting import lit_for_ever, lit_onward, no_rest, rest_before, rests_from, tables_of_ticks, ticks_of
+from timedoors.rounds import plain_lights
 from timedoors.spread import light_masks
 from timedoors.stretches import table_of_presses
 
@@ -21,18 +21,9 @@ def for_ever(level, endless):
 
 
 def endless_light(level, endless):
-    presses, turn = endless
     machine = Machine(level)
-    rest, _ = settled_row(machine, turn)
-    lit, coming = lit_onward(machine, presses, rest, 0)
-    starts = {}
-    # A round that begins with the same coming in from the left goes as it went before.
-    while coming not in starts:
-        starts[coming] = len(lit)
-        masks, coming = lit_onward(machine, turn, rest, coming)
-        lit.extend(masks)
-    history = [lights_of(mask) for mask in lit]
-    return plain_endless(level, (history[:starts[coming]], history[starts[coming]:]))
+    ahead, turn = lit_for_ever(ticks_of(machine, endless[0]), ticks_of(machine, endless[1]))
+    return plain_lights(ahead, turn)
 
 
 def for_ever_at(level, endless, tick):
@@ -97,7 +88,7 @@ def stays_from(level, endless, many):
     once = table_of_presses(machine, turn)
     rest = no_rest(machine)
     # More rounds never make a tick darker: so once all is there, it stays.
-    while lit_onward(machine, ticks, rest, 0)[0][:many] != wanted:
+    while lit_onward(ticks_of(machine, ticks), rest, 0)[0][:many] != wanted:
         rest = rest_before(machine, once, rest)
         rounds += 1
     return rounds

@@ -1,5 +1,9 @@
 """What values are: each function here tells whether any value at all is of one kind."""
 
+# How far doors lead, and how far long ones do.
+NEXT = 1
+FARTHEST = 9
+
 
 def is_whole(value):
     """A Boolean is an integer for Python, but no number of this package."""
@@ -35,19 +39,49 @@ def fits_presses(rooms, value):
 
 
 def fits_door(rooms, value):
+    return fits_door_within(rooms, value, NEXT)
+
+
+def fits_long_door(rooms, value):
+    return fits_door_within(rooms, value, FARTHEST)
+
+
+def fits_door_within(rooms, value, farthest):
     if not is_tuple_of(3, value):
         return False
     needs, room, shift = value
-    return fits_lights(rooms, needs) and fits_room(rooms, room) and is_whole(shift) and -1 <= shift <= 1
+    if not fits_lights(rooms, needs) or not fits_room(rooms, room):
+        return False
+    return is_whole(shift) and -farthest <= shift <= farthest
+
+
+def fits_dark_door(rooms, value):
+    if not is_tuple_of(4, value):
+        return False
+    needs, darks, room, shift = value
+    return fits_lights(rooms, darks) and fits_door(rooms, (needs, room, shift))
 
 
 def fits_level(value):
+    return fits_level_with(value, fits_door)
+
+
+def fits_long_level(value):
+    return fits_level_with(value, fits_long_door)
+
+
+def fits_dark_level(value):
+    return fits_level_with(value, fits_dark_door)
+
+
+def fits_level_with(value, fits_one):
+    """Whether a value is a tuple of a number of rooms and of a list of doors of one kind."""
     if not is_tuple_of(2, value):
         return False
     rooms, doors = value
     if not is_whole(rooms) or rooms < 1 or not isinstance(doors, list):
         return False
-    return all([fits_door(rooms, door) for door in doors])
+    return all([fits_one(rooms, door) for door in doors])
 
 
 def fits_run(rooms, value):

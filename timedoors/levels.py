@@ -3,6 +3,7 @@
 from timedoors.checks import check_count, check_endless, check_level, check_presses, check_runs
 from timedoors.errors import InvalidNumber, TooMany
 from timedoors.kinds import fits_door, fits_endless, fits_letters, fits_level, fits_presses, fits_runs, is_whole
+from timedoors.rounds import made_plain
 
 MOST_SPREAD = 300
 
@@ -52,6 +53,11 @@ def rooms_of_shift(level, wanted):
     return sorted({room for _, room, shift in level[1] if shift == wanted})
 
 
+def copy_of_level(level):
+    rooms, doors = level
+    return rooms, [(list(needs), room, shift) for needs, room, shift in doors]
+
+
 def both_pressed(level, presses, more):
     check_level(level)
     check_presses(level, presses)
@@ -89,22 +95,8 @@ def ticks_of_runs(runs):
 def plain_endless(level, endless):
     check_level(level)
     check_endless(level, endless)
-    presses, turn = endless
-    turn = turn[:shortest_turn(turn)]
-    kept = len(presses)
-    # A last item that the round ends with, too, belongs to the round: it then begins one tick earlier.
-    while kept > 0 and presses[kept - 1] == turn[-1]:
-        turn = turn[-1:] + turn[:-1]
-        kept -= 1
-    return [list(lights) for lights in presses[:kept]], [list(lights) for lights in turn]
-
-
-def shortest_turn(turn):
-    """How long the shortest list is that `turn` repeats."""
-    for size in range(1, len(turn)):
-        if len(turn) % size == 0 and turn[size:] == turn[:-size]:
-            return size
-    return len(turn)
+    presses, turn = made_plain(endless[0], endless[1])
+    return [list(lights) for lights in presses], [list(lights) for lights in turn]
 
 
 def pressed_at(level, endless, tick):

@@ -9,11 +9,15 @@ from timedoors.masks import mask_of
 
 
 class Machine:
-    """The doors of a level, with what has been worked out of single ticks so far."""
+    """The doors of a level, with what has been worked out of single ticks so far.
 
-    def __init__(self, level):
-        self.rights = rooms_of_shift(level, 1)
-        self.lefts = rooms_of_shift(level, -1)
+    If the level is a part of another one, a part with less doors, `whole` is this one: its rights and lefts count.
+    """
+
+    def __init__(self, level, whole=None):
+        sides = level if whole is None else whole
+        self.rights = rooms_of_shift(sides, 1)
+        self.lefts = rooms_of_shift(sides, -1)
         self.now = [(mask_of(needs), 1 << room) for needs, room, shift in level[1] if shift == 0]
         self.onward = sending_doors(level, 1, self.rights)
         self.backward = sending_doors(level, -1, self.lefts)

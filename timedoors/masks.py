@@ -20,6 +20,20 @@ def lights_of(mask):
     return lights
 
 
+def in_each(mask, others):
+    """What of a mask is in each one of some others, too."""
+    for other in others:
+        mask &= other
+    return mask
+
+
+def in_some(masks):
+    whole = 0
+    for mask in masks:
+        whole |= mask
+    return whole
+
+
 def door_masks(level):
     """The doors in their order: the mask of the needs, the mask of the room, the shift."""
     return [(mask_of(needs), 1 << room, shift) for needs, room, shift in level[1]]

@@ -73,11 +73,48 @@ def settle_onward(machine, coming, pressed, rest):
     return lit, sent
 
 
-def lit_onward(machine, presses, rest, coming):
-    """The masks that are lit at the ticks of presses ahead of a rest row, and what they send right in the end."""
-    rests = rests_from(machine, tables_of_ticks(machine, presses), rest)
+def ticks_of(machine, presses):
+    """What is walked along here: for each tick the machine of its doors, and the mask that is pressed."""
+    return [(machine, mask_of(lights)) for lights in presses]
+
+
+def rests_along(ticks, rest):
+    """For each tick the rest row from it on, the told one behind the last of them; this one is the last item."""
+    rests = [rest]
+    for machine, pressed in reversed(ticks):
+        rests.append(rest_before(machine, machine.table_of_tick(pressed), rests[-1]))
+    rests.reverse()
+    return rests
+
+
+def lit_onward(ticks, rest, coming):
+    """The masks that are lit at ticks ahead of a rest row, and what they send right in the end."""
+    rests = rests_along(ticks, rest)
     masks = []
-    for tick, lights in enumerate(presses):
-        lit, coming = settle_onward(machine, coming, mask_of(lights), rests[tick + 1])
+    for tick, (machine, pressed) in enumerate(ticks):
+        lit, coming = settle_onward(machine, coming, pressed, rests[tick + 1])
         masks.append(lit)
     return masks, coming
+
+
+def settled_along(ticks):
+    """The rest row to which ticks settle, done again and again, going on from nothing."""
+    rest = no_rest(ticks[0][0])
+    more = rests_along(ticks, rest)[0]
+    while more != rest:
+        rest = more
+        more = rests_along(ticks, rest)[0]
+    return rest
+
+
+def lit_for_ever(ahead, turn):
+    """The masks at the ticks ahead and those of a round, if the ticks of `turn` come again and again."""
+    rest = settled_along(turn)
+    lit, coming = lit_onward(ahead, rest, 0)
+    starts = {}
+    # A round that begins with the same coming in from the left goes as it went before.
+    while coming not in starts:
+        starts[coming] = len(lit)
+        masks, coming = lit_onward(turn, rest, coming)
+        lit.extend(masks)
+    return lit[:starts[coming]], lit[starts[coming]:]

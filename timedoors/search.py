@@ -7,22 +7,26 @@ leads, the marks ascending.
 
 def first_marks(start, follow, is_found):
     """The first list of marks, shorter ones first, that leads to what is found, `None` if none does."""
-    if is_found(start):
-        return []
     came = {start: None}
     wave = [start]
     while len(wave) > 0:
-        coming = []
+        # All is met in the order of its first marks.
         for state in wave:
-            for mark, later in follow(state):
-                if later not in came:
-                    came[later] = (mark, state)
-                    coming.append(later)
-                    # All is met in the order of its first marks, so nothing ahead of this one is still to come.
-                    if is_found(later):
-                        return marks_to(came, later)
-        wave = coming
+            if is_found(state):
+                return marks_to(came, state)
+        wave = wave_behind(wave, follow, came)
     return None
+
+
+def wave_behind(wave, follow, came):
+    """The states that follow a wave and are new to `came`, which then tells how each of them comes."""
+    coming = []
+    for state in wave:
+        for mark, later in follow(state):
+            if later not in came:
+                came[later] = (mark, state)
+                coming.append(later)
+    return coming
 
 
 def marks_to(came, state):
@@ -32,6 +36,17 @@ def marks_to(came, state):
         marks.append(mark)
     marks.reverse()
     return marks
+
+
+def waves_met(start, follow):
+    """All states in waves, by how many marks lead to each, and how each of them comes."""
+    came = {start: None}
+    waves = []
+    wave = [start]
+    while len(wave) > 0:
+        waves.append(wave)
+        wave = wave_behind(wave, follow, came)
+    return waves, came
 
 
 def all_states(start, follow):

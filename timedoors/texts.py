@@ -1,6 +1,6 @@
 """Texts of levels and presses, and pictures of histories."""
 
-from timedoors.checks import check_history, check_level, check_presses
+from timedoors.checks import check_history, check_level, check_presses, check_text
 from timedoors.errors import InvalidText
 from timedoors.kinds import fits_level, fits_presses
 
@@ -32,16 +32,21 @@ def text_of_presses(level, presses):
 
 
 def level_of_text(text):
-    if not isinstance(text, str):
+    check_text(text)
+    level = level_in_text(text)
+    if level is None:
         raise InvalidText(text)
+    return level
+
+
+def level_in_text(text):
+    """The level of a text, `None` if it is the text of none."""
     head, colon, tail = text.partition(":")
     # The blank stands ahead of each door, so what is ahead of the first blank has to be nothing.
     words = tail.split(" ")
     doors = [door_of_text(word) for word in words[1:]]
     level = (number_of_text(head), doors)
-    if colon == "" or words[0] != "" or not fits_level(level):
-        raise InvalidText(text)
-    return level
+    return level if colon != "" and words[0] == "" and fits_level(level) else None
 
 
 def door_of_text(word):
@@ -73,8 +78,7 @@ def number_of_text(word):
 
 def presses_of_text(level, text):
     check_level(level)
-    if not isinstance(text, str):
-        raise InvalidText(text)
+    check_text(text)
     presses = []
     if text != "":
         presses = [lights_of_text(word) for word in text.split(" ")]

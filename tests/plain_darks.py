@@ -11,6 +11,8 @@ CHEATED = (1, [([], [0], 0, 0)])
 EITHER = (2, [([], [0], 1, 0), ([], [1], 0, 0)])
 TURNED = (2, [([], [0], 1, 1), ([1], [], 0, -1)])
 TURNS = (3, [([], [1], 2, 0), ([], [2], 1, 0), ([1], [], 0, 1), ([2], [], 0, -1)])
+# Of room 0 and room 1 one is lit at each tick, and once it is room 1, it stays so: one more history than ticks.
+STOPPING = (2, [([], [1], 0, 0), ([], [0], 1, 0), ([1], [], 1, 1)])
 # In each finite play the last tick lacks room 0, which shows in room 2 at all ticks; in the endless one it never does.
 ENDING = (3, [([], [], 0, -1), ([], [0], 1, 0), ([1], [], 2, -1), ([2], [], 2, -1)])
 

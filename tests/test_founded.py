@@ -4,9 +4,9 @@ import itertools
 import random
 import unittest
 
-from tests.helpers import all_presses, odd_values, plain_light, presses_up_to, same, small_levels, some_presses
-from tests.plain_darks import (CHEATED, EITHER, NIGHT, TURNED, TURNS, is_within, layered_levels, plain_founded,
-                               plain_opened, small_dark_levels, some_dark_levels, wavering_levels)
+from tests.helpers import all_presses, odd_values, plain_light, presses_up_to, same, small_levels, some_presses, subsets
+from tests.plain_darks import (CHEATED, EITHER, NIGHT, STOPPING, TURNED, TURNS, is_within, layered_levels,
+                               plain_founded, plain_opened, small_dark_levels, some_dark_levels, wavering_levels)
 from timedoors.errors import InvalidHistory, InvalidLevel, InvalidNumber, InvalidPresses, TooMany
 from timedoors.founded import (agreeing, all_founded, first_founded, founded_counts, founded_light, how_many_founded,
                                is_founded)
@@ -30,6 +30,23 @@ def drawn_rows():
 
 
 ROWS = drawn_rows()
+
+
+def counted_onward(level, presses):
+    """How many there are without time doors, tick by tick: what comes in is all that counts further on."""
+    rooms, doors = level
+    ways = {(): 1}
+    for lights in presses:
+        more = {}
+        for coming, many in ways.items():
+            for guess in subsets(range(rooms)):
+                now = (rooms, [door for door in doors if door[3] == 0])
+                if plain_opened(now, [sorted({*lights, *coming})], [guess]) == [guess]:
+                    sent = {room for needs, darks, room, shift in doors
+                            if shift == 1 and set(needs) <= set(guess) and not set(darks) & set(guess)}
+                    more[tuple(sorted(sent))] = more.get(tuple(sorted(sent)), 0) + many
+        ways = more
+    return sum(ways.values())
 
 
 class Founded(unittest.TestCase):
@@ -110,9 +127,30 @@ class Told(unittest.TestCase):
         told = all_founded(level, [[], []])
         self.assertEqual([len(told), told], [100, sorted(told)])
 
+    def test_65_just_101_are_too_many(self):
+        self.assertEqual(len(all_founded(STOPPING, [[]] * 99)), 100)
+        with self.assertRaises(TooMany) as caught:
+            all_founded(STOPPING, [[]] * 100)
+        self.assertEqual(caught.exception.value, 101)
+        self.assertEqual(all_founded(STOPPING, [[]] * 2), [[[0], [0]], [[0], [1]], [[1], [1]]])
+
     def test_66_how_many(self):
         for level, presses, wanted in ROWS:
             self.assertTrue(same(how_many_founded(level, presses), len(wanted)))
+
+    def test_66_many_ticks_without_time_doors_and_told_from_behind(self):
+        draw = random.Random(662)
+        numbers = set()
+        for level in wavering_levels(663, 60, 4, 6):
+            onward = (level[0], [(needs, darks, room, abs(shift)) for needs, darks, room, shift in level[1]])
+            back = (level[0], [(needs, darks, room, -shift) for needs, darks, room, shift in onward[1]])
+            presses = some_presses(draw, level[0], draw.randint(8, 24))
+            wanted = counted_onward(onward, presses)
+            self.assertEqual(how_many_founded(onward, presses), wanted)
+            self.assertEqual(how_many_founded(back, presses[::-1]), wanted)
+            self.assertEqual(founded_counts(onward, presses, 30)[len(presses)], wanted)
+            numbers.add(wanted)
+        self.assertTrue(len(numbers) > 8 and max(numbers) > 1000, numbers)
 
     def test_66_numbers_with_very_many_figures(self):
         self.assertEqual(how_many_founded(EITHER, [[]] * 300), 2 ** 300)

@@ -178,6 +178,32 @@ class HowFar(unittest.TestCase):
         self.assertEqual([horizon(level, [[], [0]], [3]), horizon(level, [[], [1]], [3])], [0, 0])
         self.assertEqual(horizon(level, [[0], [0, 1]], [3]), 1)
 
+    def test_53_the_shorter_one_of_two_ways(self):
+        # From room 0 light goes back by four ticks, from room 4 by one, and from room 5 only to where none looks.
+        level = (6, [([0], 1, -1), ([1], 2, -1), ([2], 3, -1), ([4], 3, -1), ([5], 5, -1)])
+        for letters, length in (([[], [0], [4]], 2), ([[], [0], [5]], 4), ([[], [4], [5]], 2)):
+            told = unlike_ahead(level, letters, [3], 0)
+            self.check_told((level, letters, [3]), 0, told)
+            self.assertEqual(len(told[0]), length)
+        self.assertEqual([horizon(level, [[], [0], [4]], [3]), horizon(level, [[], [4], [5]], [3])], [3, 1])
+        self.assertEqual([len(unlike_ahead(level, [[], [0], [4]], [3], ticks)[0]) for ticks in (0, 1, 2)], [2, 4, 4])
+
+    def test_53_ticks_ahead_are_needed_too(self):
+        # What comes back from room 2 shows only where a light has come on through room 0 and 1 by two ticks.
+        level = (4, [([0], 1, 1), ([2], 2, -1), ([1, 2], 3, 0)])
+        told = unlike_ahead(level, [[], [0], [2]], [3], 0)
+        self.check_told((level, [[], [0], [2]], [3]), 0, told)
+        self.assertEqual(len(told[0]), 3)
+
+    def test_53_ends_and_ticks_ahead_are_added(self):
+        # One way takes two ticks of ends and one ahead, another one takes one tick of ends and four ahead.
+        slow = [([1], 0, -1), ([0, 8], 3, 0), ([1], 6, 1), ([6], 7, 1), ([7], 8, 1)]
+        quick = [([2], 4, -1), ([4], 5, -1), ([5], 3, 0)]
+        for doors, letters, length in ((slow, [[], [1]], 5), (quick, [[], [2]], 3), (slow + quick, [[], [1], [2]], 3)):
+            told = unlike_ahead((9, doors), letters, [3], 0)
+            self.check_told(((9, doors), letters, [3]), 0, told)
+            self.assertEqual(len(told[0]), length)
+
     def test_53_equal_calls_return_equal_results(self):
         for row in ROWS[::4]:
             self.assertTrue(same(unlike_ahead(*row, 0), unlike_ahead(*row, 0)))

@@ -6,7 +6,7 @@ import random
 import unittest
 
 from tests.helpers import odd_values, plain_light, same, small_levels, some_presses
-from tests.plain_darks import (CHEATED, EITHER, TURNED, TURNS, cheating_levels, layered_levels, plain_founded,
+from tests.plain_darks import (CHEATED, EITHER, STOPPING, TURNED, TURNS, cheating_levels, layered_levels, plain_founded,
                                wavering_levels)
 from timedoors.errors import InvalidHistory, InvalidLevel, InvalidNumber, InvalidPresses, InvalidRoom, TooMany
 from timedoors.founded import all_founded, how_many_founded, is_founded
@@ -307,6 +307,22 @@ class TooManyHistories(unittest.TestCase):
                 function((2, [([0], 1, 0)]), ticks, *more)
         one = [[0]] * 9
         self.assertEqual(crossed(EITHER, ticks, one, [[1]] * 9, 3), [[0]] * 4 + [[1]] * 5)
+
+    def test_71_just_301_are_too_many(self):
+        self.assertEqual(how_many_agree(STOPPING, [[]] * 299, []), 300)
+        self.assertEqual(agreeing_with(STOPPING, [[]] * 299, [(298, 0, True)]), [[[0]] * 299])
+        with self.assertRaises(TooMany) as caught:
+            how_many_agree(STOPPING, [[]] * 300, [])
+        self.assertEqual(caught.exception.value, 301)
+
+    def test_73_just_13_are_too_many_for_looks(self):
+        self.assertEqual(looks_needed(STOPPING, [[]] * 11, []), 4)
+        self.assertEqual(fewest_looks(STOPPING, [[]] * 11), [(tick, 0) for tick in range(11)])
+        for call in (lambda: looks_needed(STOPPING, [[]] * 12, []), lambda: fewest_looks(STOPPING, [[]] * 12)):
+            with self.assertRaises(TooMany) as caught:
+                call()
+            self.assertEqual(caught.exception.value, 13)
+        self.assertEqual(looks_needed(STOPPING, [[]] * 12, [(11, 0, False)]), 4)
 
     def test_71_just_300_are_looked_at(self):
         # One of three rooms is lit at a tick, one of five more, and one of two more: 30 ways, fewer where one is pressed.

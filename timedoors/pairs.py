@@ -1,7 +1,8 @@
 """Pairs of what may follow behind some ticks: the rest rows (see meeting) of two lists over the letters of one length.
 
-Some ticks tell two rest rows apart if they light watched rooms unlike ahead of the one and of the other one. Letters
-and rest rows are told by their numbers here, pairs of unlike rest rows by theirs, the lesser row ahead.
+Some ticks tell two rest rows apart if watched rooms are lit unlike at the last one of them, ahead of the one and of the
+other one. What is lit unlike at an earlier tick is found with fewer ticks: those behind it then belong to both lists.
+Letters and rest rows are told by their numbers here, pairs of unlike rest rows by theirs, the lesser row ahead.
 """
 
 from timedoors.masks import mask_of
@@ -29,20 +30,13 @@ class Pairs:
     def classes_by_ticks(self):
         """For each number of ticks the class of each rest row: so many ticks, or fewer, tell unlike ones apart."""
         classes = [[0 for _ in self.rests]]
-        while len(classes) <= len(self.fronts) or classes[-1] != classes[-2]:
-            many = len(classes) - 1
-            classes.append(self.refined(classes[-1], self.fronts[many] if many < len(self.fronts) else []))
+        for fronts in self.fronts:
+            told = classes[-1]
+            for front in fronts:
+                for mask in self.masks:
+                    told = split_classes(told, self.shown(front, mask))
+            classes.append(told)
         return classes
-
-    def refined(self, classes, fronts):
-        """The classes by one tick more; `fronts` are those that just so many ticks have first."""
-        told = classes
-        for row in self.ahead:
-            told = split_classes(told, [classes[number] for number in row])
-        for front in fronts:
-            for mask in self.masks:
-                told = split_classes(told, self.shown(front, mask))
-        return told
 
     def shown(self, front, mask):
         """What is lit of the watched rooms at the tick behind a front, for each rest row behind this tick."""
@@ -73,33 +67,12 @@ class Pairs:
 
     def list_apart(self, pair):
         """A list over the letters, as short as can be, that tells a pair apart."""
-        behind = []
-        many = self.ticks_apart(pair)
-        front, letter = self.front_apart(pair, many)
-        while front is None:
-            many -= 1
-            letter = self.letter_apart(pair, many)
-            behind = [letter] + behind
-            pair = (self.ahead[letter][pair[0]], self.ahead[letter][pair[1]])
-            front, letter = self.front_apart(pair, many)
-        return marks_to(self.front_came, front) + [letter] + behind
-
-    def front_apart(self, pair, many):
-        """A front of so many ticks but one, and the letter of the last one, at which a pair is told apart."""
         one, other = pair
-        for front in self.fronts[many - 1] if many <= len(self.fronts) else []:
+        for front in self.fronts[self.ticks_apart(pair) - 1]:
             for letter, mask in enumerate(self.masks):
                 shown = self.shown(front, mask)
                 if shown[one] != shown[other]:
-                    return front, letter
-        return None, None
-
-    def letter_apart(self, pair, many):
-        """A letter of which one tick, ahead of a pair, makes a pair that so many ticks tell apart."""
-        one, other = pair
-        for letter, row in enumerate(self.ahead):
-            if self.classes[many][row[one]] != self.classes[many][row[other]]:
-                return letter
+                    return marks_to(self.front_came, front) + [letter]
         return None
 
 
